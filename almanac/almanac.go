@@ -61,22 +61,14 @@ func (s *Session) Remove(file string) api.Errno {
 	return api.OK
 }
 
-// Ask answers a question (P4). The kinds 5 to 8 have no answer yet.
+// Ask answers a question (P4). The answer is copied: it may be the file itself
+// as it was handed in, or a piece of a text.
 func (s *Session) Ask(kind int, file string, name string) (string, api.Errno) {
 	if errno := checkQuestion(kind, file, name); errno != api.OK {
 		return "", errno
 	}
-	switch kind {
-	case api.Known:
-		return s.known(file), api.OK
-	case api.Tokens:
-		return lang.WriteTokens(s.tokens(file)), api.OK
-	case api.Tree:
-		return lang.WriteTree(s.tree(file)), api.OK
-	case api.Exports:
-		return strings.Join(lang.Exports(s.tree(file)), " "), api.OK
-	}
-	return "", api.OK
+	asked := answers{session: s}
+	return strings.Clone(asked.write(kind, file, name)), api.OK
 }
 
 // Ran tells what the last call worked out (P5). It has no answer yet.
@@ -123,17 +115,3 @@ func (s *Session) put(file string, text string) {
 	s.files[strings.Clone(file)] = source{strings.Clone(text)}
 	s.revision++
 }
-
-func (s *Session) known(file string) string {
-	if _, there := s.text(file); there {
-		return "yes"
-	}
-	return "no"
-}
-
-func (s *Session) tokens(file string) []lang.Token {
-	text, _ := s.text(file)
-	return lang.ReadTokens(text)
-}
-
-func (s *Session) tree(file string) lang.Tree { return lang.ReadTree(s.tokens(file)) }

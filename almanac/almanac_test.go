@@ -27,8 +27,13 @@ func wantRemove(t *testing.T, s *Session, file string, want api.Errno) {
 
 func wantAsk(t *testing.T, s *Session, kind int, file string, want string) {
 	t.Helper()
-	if got, errno := s.Ask(kind, file, "?"); got != want || errno != api.OK {
-		t.Errorf("P4: Ask(%d, %q) = %q, %d, want %q", kind, file, got, errno, want)
+	wantOf(t, s, kind, file, "?", want)
+}
+
+func wantOf(t *testing.T, s *Session, kind int, file string, name string, want string) {
+	t.Helper()
+	if got, errno := s.Ask(kind, file, name); got != want || errno != api.OK {
+		t.Errorf("P4: Ask(%d, %q, %q) = %q, %d, want %q", kind, file, name, got, errno, want)
 	}
 }
 
@@ -246,6 +251,10 @@ func TestNoSession(t *testing.T) {
 	wantRemove(t, none, "a", api.ErrNone)
 	wantAsk(t, none, api.Known, "a", "no")
 	wantAsk(t, none, api.Tokens, "a", "@1:1")
+	wantOf(t, none, api.Find, "a", "x", "none")
+	wantOf(t, none, api.Type, "a", "x", "none")
+	wantOf(t, none, api.Value, "a", "x", "none")
+	wantAsk(t, none, api.Report, "a", "")
 	wantState(t, none, 0, 0)
 	if got := none.Ran(); len(got) != 0 {
 		t.Errorf("P1: no session ran %q", got)

@@ -10,16 +10,28 @@ import (
 func Example() {
 	s := almanac.New()
 	s.Set("a", "use b; pub let x:int = 1 + y;")
+	s.Set("b", "pub let y:int = 41;")
 	tree, errno := s.Ask(api.Tree, "a", "")
 	fmt.Print(tree, errno, "\n")
-	exports, errno := s.Ask(api.Exports, "a", "")
-	fmt.Println(exports, errno)
+	value, errno := s.Ask(api.Value, "a", "x")
+	fmt.Println(value, errno)
+	found, errno := s.Ask(api.Find, "a", "y")
+	fmt.Println(found, errno)
+	errno = s.Remove("b")
+	fmt.Println(errno)
+	report, errno := s.Ask(api.Report, "a", "")
+	fmt.Print(report, errno, "\n")
 	_, errno = s.Ask(api.Tree, "A", "")
 	fmt.Println(errno == api.ErrName)
 	// Output:
 	// 1:use b
 	// 5:pub x:int=(1+y)
 	// 0
-	// x 0
+	// 42 0
+	// b 0
+	// 0
+	// 1:5 unknown
+	// 1:16 type
+	// 0
 	// true
 }

@@ -90,7 +90,7 @@ func (p *parser) name() (string, bool) {
 
 func (p *parser) typeWord() (string, bool) {
 	text := p.text()
-	return text, p.take("int") || p.take("bool")
+	return text, p.take(Int) || p.take(Bool)
 }
 
 func (p *parser) expr() (Expr, bool) {

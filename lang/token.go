@@ -1,4 +1,4 @@
-// Package lang reads texts of the small language: their tokens and their trees.
+// Package lang reads texts of the small language: their tokens, their trees and what their exprs mean.
 package lang
 
 import (

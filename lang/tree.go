@@ -25,6 +25,12 @@ const (
 	Pub
 )
 
+// Int and Bool are the types that an item can say that it has.
+const (
+	Int  = "int"
+	Bool = "bool"
+)
+
 // Item is one item of a file. A Use has neither Type nor Expr.
 type Item struct {
 	Kind   ItemKind
@@ -38,10 +44,14 @@ type Item struct {
 // so that == holds two exprs against each other, part by part.
 type Expr interface {
 	write(out *strings.Builder)
+	names(found []string) []string
+	typed(meanings map[string]Meaning) string
+	reckon(meanings map[string]Meaning) (Number, bool)
 }
 
-// Number is a number that stands in an expr.
-type Number int
+// Number is a number that stands in an expr. Its size leaves room for the
+// product of any two, wherever the program runs.
+type Number int64
 
 // Truth is `true` or `false`.
 type Truth bool
@@ -60,7 +70,7 @@ type Choice struct {
 	If, Then, Else Expr
 }
 
-func (n Number) write(out *strings.Builder) { out.WriteString(strconv.Itoa(int(n))) }
+func (n Number) write(out *strings.Builder) { out.WriteString(strconv.FormatInt(int64(n), 10)) }
 
 func (t Truth) write(out *strings.Builder) { out.WriteString(strconv.FormatBool(bool(t))) }
 
@@ -127,4 +137,26 @@ func Exports(tree Tree) []string {
 	}
 	slices.Sort(names)
 	return slices.Compact(names)
+}
+
+// Uses answers the files that the tree uses, each once, in the order of the items.
+func Uses(tree Tree) []string {
+	var files []string
+	for _, item := range tree.Items {
+		if item.Kind == Use && !slices.Contains(files, item.Name) {
+			files = append(files, item.Name)
+		}
+	}
+	return files
+}
+
+// Named answers the items `let` and `pub` of that name.
+func Named(tree Tree, name string) []Item {
+	var items []Item
+	for _, item := range tree.Items {
+		if item.Kind != Use && item.Name == name {
+			items = append(items, item)
+		}
+	}
+	return items
 }
