@@ -176,7 +176,7 @@ func TestRevisionsBehindFiles(t *testing.T) {
 func TestAskErrors(t *testing.T) {
 	s := New()
 	s.Set("a", "pub let x:int=1;")
-	for _, kind := range []int{0, 9, -1, 10, 256 + 1, 1<<32 + 1, math.MaxInt, math.MinInt} {
+	for _, kind := range []int{0, 9, -1, 10, 256 + 1, 1<<16 + 1, math.MaxInt, math.MinInt} {
 		wantErrno(t, s, kind, "a", "x", api.ErrKind)
 		wantErrno(t, s, kind, "", "", api.ErrKind)
 	}
