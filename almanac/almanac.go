@@ -6,13 +6,14 @@ import (
 
 	"almanac/api"
 	"almanac/lang"
+	"almanac/slots"
 )
 
 // Session has files, and what was worked out of them. One that is nil has no
 // file and no room for one.
 type Session struct {
-	files    map[string]source // by the files' names
-	revision int
+	files map[string]source // by the files' names
+	table slots.Table
 }
 
 // source is what is kept of a file that is there.
@@ -25,6 +26,7 @@ func New() *Session { return &Session{} }
 
 // Set gives a file a text (P3).
 func (s *Session) Set(file string, text string) api.Errno {
+	s.begin()
 	if !lang.IsFile(file) {
 		return api.ErrName
 	}
@@ -38,7 +40,7 @@ func (s *Session) Set(file string, text string) api.Errno {
 	if there && old == text {
 		return api.OK
 	}
-	if s.revision >= api.MaxRevision {
+	if s.table.Revision() >= api.MaxRevision {
 		return api.ErrRevisions
 	}
 	s.put(file, text)
@@ -47,39 +49,61 @@ func (s *Session) Set(file string, text string) api.Errno {
 
 // Remove takes a file away (P3).
 func (s *Session) Remove(file string) api.Errno {
+	s.begin()
 	if !lang.IsFile(file) {
 		return api.ErrName
 	}
 	if _, there := s.text(file); !there {
 		return api.ErrNone
 	}
-	if s.revision >= api.MaxRevision {
+	if s.table.Revision() >= api.MaxRevision {
 		return api.ErrRevisions
 	}
 	delete(s.files, file)
-	s.revision++
+	s.table.Change(file)
 	return api.OK
 }
 
-// Ask answers a question (P4). The answer is copied: it may be the file itself
-// as it was handed in, or a piece of a text.
+// Ask answers a question (P4). The answer is copied: it may be a piece of a text
+// that is far longer. Of a nil session nothing is kept behind it.
 func (s *Session) Ask(kind int, file string, name string) (string, api.Errno) {
+	s.begin()
 	if errno := checkQuestion(kind, file, name); errno != api.OK {
 		return "", errno
 	}
-	asked := answers{session: s}
-	return strings.Clone(asked.write(kind, file, name)), api.OK
+	if s == nil {
+		s = New()
+	}
+	answer := s.write(kind, file, name)
+	s.table.Keep(api.MaxValues)
+	return strings.Clone(answer), api.OK
 }
 
-// Ran tells what the last call worked out (P5). It has no answer yet.
-func (s *Session) Ran() []string { return nil }
+// Ran tells what the last call worked out (P5).
+func (s *Session) Ran() []string {
+	if s == nil {
+		return nil
+	}
+	var ran []string
+	for _, key := range s.table.Began() {
+		ran = append(ran, writeKey(key))
+	}
+	return ran
+}
 
-// Look tells how the session stands (P5). No value is kept yet.
+// Look tells how the session stands (P5).
 func (s *Session) Look() api.State {
 	if s == nil {
 		return api.State{}
 	}
-	return api.State{Revision: s.revision, Files: len(s.files)}
+	return api.State{Revision: s.table.Revision(), Files: len(s.files), Kept: s.table.Kept()}
+}
+
+// begin makes Ran tell of the call that begins.
+func (s *Session) begin() {
+	if s != nil {
+		s.table.Begin()
+	}
 }
 
 func checkQuestion(kind int, file string, name string) api.Errno {
@@ -113,5 +137,5 @@ func (s *Session) put(file string, text string) {
 		s.files = map[string]source{}
 	}
 	s.files[strings.Clone(file)] = source{strings.Clone(text)}
-	s.revision++
+	s.table.Change(file)
 }

@@ -260,6 +260,8 @@ func TestNoSession(t *testing.T) {
 		t.Errorf("P1: no session ran %q", got)
 	}
 	empty := &Session{}
+	wantState(t, empty, 0, 0)
+	wantRan(t, empty, "3 a", "", "3 a, 2 a")
 	wantRemove(t, empty, "a", api.ErrNone)
 	wantSet(t, empty, "a", "", api.OK)
 	wantAsk(t, empty, api.Known, "a", "yes")
@@ -297,6 +299,9 @@ func TestErrorsChangeNothing(t *testing.T) {
 		before := stand(s)
 		did := play(s, random)
 		failed := !strings.HasSuffix(did, " 0")
+		if ran := s.Ran(); failed && len(ran) != 0 {
+			t.Fatalf("P1: %q ran %q", did, ran)
+		}
 		if failed && strings.HasPrefix(did, "ask ") && len(did) != len("ask  0") {
 			t.Fatalf("P1: an answer with an error: %q", did)
 		}

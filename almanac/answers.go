@@ -19,96 +19,111 @@ const (
 	over  = "over"
 )
 
-// answers works answers out of the files as they are while one question is
-// asked; what several of them are worked out of is worked out once.
-type answers struct {
-	session *Session
-	table   slots.Table
-}
-
 // write answers a question that is none of the refused ones.
-func (a *answers) write(kind int, file string, name string) string {
+func (s *Session) write(kind int, file string, name string) string {
+	looks := s.table.Looks()
 	switch kind {
 	case api.Known:
-		return a.known(file)
+		return s.known(looks, file)
 	case api.Tokens:
-		return lang.WriteTokens(a.tokens(file))
+		return lang.WriteTokens(s.tokens(looks, file))
 	case api.Tree:
-		return lang.WriteTree(a.tree(file))
+		return lang.WriteTree(s.tree(looks, file))
 	case api.Exports:
-		return strings.Join(a.exports(file), " ")
+		return strings.Join(s.exports(looks, file), " ")
 	case api.Find:
-		return a.find(file, name)
+		return s.find(looks, file, name)
 	case api.Type:
-		return a.typeOf(file, name)
+		return s.typeOf(looks, file, name)
 	case api.Value:
-		return a.value(file, name)
+		return s.value(looks, file, name)
 	}
-	return a.report(file)
+	return s.report(looks, file)
 }
 
-func (a *answers) known(file string) string {
-	key := slots.Key{Kind: api.Known, File: file}
-	return slots.Fetch(&a.table, key, slots.Rule[string]{Work: a.workKnown})
+// writeKey tells which question it is.
+func writeKey(key slots.Key) string {
+	told := strconv.Itoa(key.Kind) + " " + key.File
+	if needsName(key.Kind) {
+		told += " " + key.Name
+	}
+	return told
 }
 
-func (a *answers) tokens(file string) []lang.Token {
-	key := slots.Key{Kind: api.Tokens, File: file}
-	return slots.Fetch(&a.table, key, slots.Rule[[]lang.Token]{Work: a.workTokens})
+func (s *Session) known(looks *slots.Looks, file string) string {
+	return slots.Fetch(looks, slots.Key{Kind: api.Known, File: file}, textRule(s.workKnown))
 }
 
-func (a *answers) tree(file string) lang.Tree {
-	key := slots.Key{Kind: api.Tree, File: file}
-	return slots.Fetch(&a.table, key, slots.Rule[lang.Tree]{Work: a.workTree})
+func (s *Session) tokens(looks *slots.Looks, file string) []lang.Token {
+	rule := slots.Rule[[]lang.Token]{Work: s.workTokens, Same: slices.Equal[[]lang.Token]}
+	return slots.Fetch(looks, slots.Key{Kind: api.Tokens, File: file}, rule)
 }
 
-func (a *answers) exports(file string) []string {
-	key := slots.Key{Kind: api.Exports, File: file}
-	return slots.Fetch(&a.table, key, slots.Rule[[]string]{Work: a.workExports})
+func (s *Session) tree(looks *slots.Looks, file string) lang.Tree {
+	rule := slots.Rule[lang.Tree]{Work: s.workTree, Same: lang.SameTree}
+	return slots.Fetch(looks, slots.Key{Kind: api.Tree, File: file}, rule)
 }
 
-func (a *answers) find(file string, name string) string {
-	key := slots.Key{Kind: api.Find, File: file, Name: name}
-	return slots.Fetch(&a.table, key, slots.Rule[string]{Work: a.workFind})
+func (s *Session) exports(looks *slots.Looks, file string) []string {
+	rule := slots.Rule[[]string]{Work: s.workExports, Same: slices.Equal[[]string]}
+	return slots.Fetch(looks, slots.Key{Kind: api.Exports, File: file}, rule)
 }
 
-func (a *answers) typeOf(file string, name string) string {
-	key := slots.Key{Kind: api.Type, File: file, Name: name}
-	return slots.Fetch(&a.table, key, slots.Rule[string]{Work: a.workType})
+func (s *Session) find(looks *slots.Looks, file string, name string) string {
+	return slots.Fetch(looks, slots.Key{Kind: api.Find, File: file, Name: name}, textRule(s.workFind))
+}
+
+func (s *Session) typeOf(looks *slots.Looks, file string, name string) string {
+	return slots.Fetch(looks, slots.Key{Kind: api.Type, File: file, Name: name}, textRule(s.workType))
 }
 
 // value has the only answer that can be worked out of itself.
-func (a *answers) value(file string, name string) string {
-	key := slots.Key{Kind: api.Value, File: file, Name: name}
-	return slots.Fetch(&a.table, key, slots.Rule[string]{Work: a.workValue, Looped: cycle})
+func (s *Session) value(looks *slots.Looks, file string, name string) string {
+	rule := textRule(s.workValue)
+	rule.Looped = cycle
+	return slots.Fetch(looks, slots.Key{Kind: api.Value, File: file, Name: name}, rule)
 }
 
-func (a *answers) report(file string) string {
-	key := slots.Key{Kind: api.Report, File: file}
-	return slots.Fetch(&a.table, key, slots.Rule[string]{Work: a.workReport})
+func (s *Session) report(looks *slots.Looks, file string) string {
+	return slots.Fetch(looks, slots.Key{Kind: api.Report, File: file}, textRule(s.workReport))
 }
 
-func (a *answers) workKnown(of slots.Key) string {
-	if _, there := a.session.text(of.File); there {
+func textRule(work func(*slots.Looks, slots.Key) string) slots.Rule[string] {
+	return slots.Rule[string]{Work: work, Same: func(one string, other string) bool { return one == other }}
+}
+
+// look answers a file's text, and whether the file is there, to a slot that is
+// worked out of it.
+func (s *Session) look(looks *slots.Looks, file string) (string, bool) {
+	looks.Source(file)
+	return s.text(file)
+}
+
+func (s *Session) workKnown(looks *slots.Looks, of slots.Key) string {
+	if _, there := s.look(looks, of.File); there {
 		return "yes"
 	}
 	return "no"
 }
 
-func (a *answers) workTokens(of slots.Key) []lang.Token {
-	text, _ := a.session.text(of.File)
+func (s *Session) workTokens(looks *slots.Looks, of slots.Key) []lang.Token {
+	text, _ := s.look(looks, of.File)
 	return lang.ReadTokens(text)
 }
 
-func (a *answers) workTree(of slots.Key) lang.Tree { return lang.ReadTree(a.tokens(of.File)) }
+func (s *Session) workTree(looks *slots.Looks, of slots.Key) lang.Tree {
+	return lang.ReadTree(s.tokens(looks, of.File))
+}
 
-func (a *answers) workExports(of slots.Key) []string { return lang.Exports(a.tree(of.File)) }
+func (s *Session) workExports(looks *slots.Looks, of slots.Key) []string {
+	return lang.Exports(s.tree(looks, of.File))
+}
 
-func (a *answers) workFind(of slots.Key) string {
-	tree := a.tree(of.File)
+func (s *Session) workFind(looks *slots.Looks, of slots.Key) string {
+	tree := s.tree(looks, of.File)
 	switch len(lang.Named(tree, of.Name)) {
 	case 0:
-		return a.findUsed(tree, of.Name)
+		return s.findUsed(looks, tree, of.Name)
 	case 1:
 		return of.File
 	}
@@ -117,10 +132,10 @@ func (a *answers) workFind(of slots.Key) string {
 
 // findUsed asks every file that is used, also when two have been found: all of
 // them are what the answer hangs on.
-func (a *answers) findUsed(tree lang.Tree, name string) string {
+func (s *Session) findUsed(looks *slots.Looks, tree lang.Tree, name string) string {
 	found := none
 	for _, file := range lang.Uses(tree) {
-		if !slices.Contains(a.exports(file), name) {
+		if !slices.Contains(s.exports(looks, file), name) {
 			continue
 		}
 		if found == none {
@@ -132,14 +147,14 @@ func (a *answers) findUsed(tree lang.Tree, name string) string {
 	return found
 }
 
-func (a *answers) workType(of slots.Key) string {
-	items := lang.Named(a.tree(of.File), of.Name)
+func (s *Session) workType(looks *slots.Looks, of slots.Key) string {
+	items := lang.Named(s.tree(looks, of.File), of.Name)
 	if len(items) != 1 {
 		return none
 	}
 	meanings := map[string]lang.Meaning{}
 	for _, name := range lang.Names(items[0].Expr) {
-		meanings[name] = lang.Meaning{Type: a.saidType(of.File, name)}
+		meanings[name] = lang.Meaning{Type: s.saidType(looks, of.File, name)}
 	}
 	if lang.TypeOf(items[0].Expr, meanings) != items[0].Type {
 		return bad
@@ -148,28 +163,28 @@ func (a *answers) workType(of slots.Key) string {
 }
 
 // saidType answers the type that the item says that a name in a file means, empty if it means none.
-func (a *answers) saidType(file string, name string) string {
-	found := a.find(file, name)
+func (s *Session) saidType(looks *slots.Looks, file string, name string) string {
+	found := s.find(looks, file, name)
 	if !lang.IsFile(found) {
 		return ""
 	}
-	items := lang.Named(a.tree(found), name)
+	items := lang.Named(s.tree(looks, found), name)
 	if len(items) != 1 {
 		return ""
 	}
 	return items[0].Type
 }
 
-func (a *answers) workValue(of slots.Key) string {
-	kind := a.typeOf(of.File, of.Name)
+func (s *Session) workValue(looks *slots.Looks, of slots.Key) string {
+	kind := s.typeOf(looks, of.File, of.Name)
 	if kind == none || kind == bad {
 		return kind
 	}
-	expr := lang.Named(a.tree(of.File), of.Name)[0].Expr
+	expr := lang.Named(s.tree(looks, of.File), of.Name)[0].Expr
 	meanings := map[string]lang.Meaning{}
 	fault := ""
 	for _, name := range lang.Names(expr) {
-		value := a.value(a.find(of.File, name), name)
+		value := s.value(looks, s.find(looks, of.File, name), name)
 		fault = worse(fault, value)
 		meanings[name] = lang.Meaning{Worth: lang.ReadWorth(value)}
 	}
@@ -205,8 +220,8 @@ func gravity(value string) int {
 
 // workReport has its lines in rising order as it goes from item to item: each
 // token is behind those ahead of it.
-func (a *answers) workReport(of slots.Key) string {
-	tokens, tree := a.tokens(of.File), a.tree(of.File)
+func (s *Session) workReport(looks *slots.Looks, of slots.Key) string {
+	tokens, tree := s.tokens(looks, of.File), s.tree(looks, of.File)
 	var out strings.Builder
 	tell := func(number int, word string) {
 		if word != "" {
@@ -214,7 +229,7 @@ func (a *answers) workReport(of slots.Key) string {
 		}
 	}
 	for _, item := range tree.Items {
-		tell(item.Number, a.wrong(of.File, tree, item))
+		tell(item.Number, s.wrong(looks, of.File, tree, item))
 	}
 	if tree.Fault != lang.NoFault {
 		tell(tree.Fault, "syntax")
@@ -223,17 +238,17 @@ func (a *answers) workReport(of slots.Key) string {
 }
 
 // wrong tells by a word what is wrong with an item, empty if nothing is.
-func (a *answers) wrong(file string, tree lang.Tree, item lang.Item) string {
+func (s *Session) wrong(looks *slots.Looks, file string, tree lang.Tree, item lang.Item) string {
 	switch {
 	case item.Kind == lang.Use:
-		if a.known(item.Name) == "yes" {
+		if s.known(looks, item.Name) == "yes" {
 			return ""
 		}
 		return "unknown"
 	case len(lang.Named(tree, item.Name)) > 1:
 		return "twice"
-	case a.typeOf(file, item.Name) == bad:
+	case s.typeOf(looks, file, item.Name) == bad:
 		return "type"
 	}
-	return worse("", a.value(file, item.Name))
+	return worse("", s.value(looks, file, item.Name))
 }

@@ -35,3 +35,16 @@ func Example() {
 	// 0
 	// true
 }
+
+func ExampleSession_Ran() {
+	s := almanac.New()
+	s.Set("a", "let x:int = 1;")
+	s.Ask(api.Value, "a", "x")
+	fmt.Printf("%q\n", s.Ran())
+	s.Set("a", "let x:int = 1; # one")
+	s.Ask(api.Value, "a", "x")
+	fmt.Printf("%q %d\n", s.Ran(), s.Look().Kept)
+	// Output:
+	// ["7 a x" "6 a x" "3 a" "2 a"]
+	// ["2 a" "3 a"] 4
+}

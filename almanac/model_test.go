@@ -8,6 +8,7 @@ import (
 	"testing"
 
 	"almanac/api"
+	"almanac/lang"
 )
 
 // A model is a second account of the answers: it makes its files as values, not
@@ -26,9 +27,10 @@ type modelItem struct {
 }
 
 type modelFile struct {
-	text  string
-	items []modelItem
-	fault string // its place
+	text   string
+	items  []modelItem
+	ending int
+	fault  string // its place
 }
 
 type model map[string]modelFile
@@ -126,37 +128,53 @@ func modelItemOf(random *rand.Rand) modelItem {
 }
 
 func modelFileOf(random *rand.Rand) modelFile {
-	blanks := []string{" ", "\n", "\t ", "# no\n", " \n "}
-	blank := func() string { return blanks[random.Intn(len(blanks))] }
 	for {
-		var file modelFile
+		var items []modelItem
 		for range random.Intn(8) {
-			item := modelItemOf(random)
-			file.text += item.head + blank()
-			item.place = placeBehind(file.text)
-			file.text += item.name
-			if item.head != "use" {
-				file.text += ":" + item.kind + "=" + item.expr.text()
-			}
-			file.text += ";" + blank()
-			file.items = append(file.items, item)
+			items = append(items, modelItemOf(random))
 		}
-		switch random.Intn(8) {
-		case 0:
-			file.fault = placeBehind(file.text)
-			file.text += "; use b;"
-		case 1:
-			file.text += "let i:int=1" + blank()
-			file.fault = placeBehind(file.text)
-		case 2:
-			file.text += "pub let i:int="
-			file.fault = placeBehind(file.text)
-			file.text += "use b;"
-		}
-		if len(file.text) <= api.MaxText {
+		if file := modelWritten(random, items, random.Intn(8)); len(file.text) <= api.MaxText {
 			return file
 		}
 	}
+}
+
+// modelWritten writes items with any blanks between them, and an ending that may be at fault.
+func modelWritten(random *rand.Rand, items []modelItem, ending int) modelFile {
+	blanks := []string{" ", "\n", "\t ", "# no\n", " \n "}
+	blank := func() string { return blanks[random.Intn(len(blanks))] }
+	file := modelFile{ending: ending}
+	for _, item := range items {
+		file.text += item.head + blank()
+		item.place = placeBehind(file.text)
+		file.text += item.name
+		if item.head != "use" {
+			file.text += ":" + item.kind + "=" + item.expr.text()
+		}
+		file.text += ";" + blank()
+		file.items = append(file.items, item)
+	}
+	switch ending {
+	case 0:
+		file.fault = placeBehind(file.text)
+		file.text += "; use b;"
+	case 1:
+		file.text += "let i:int=1" + blank()
+		file.fault = placeBehind(file.text)
+	case 2:
+		file.text += "pub let i:int="
+		file.fault = placeBehind(file.text)
+		file.text += "use b;"
+	}
+	return file
+}
+
+func (m model) texts() []string {
+	var texts []string
+	for _, file := range modelFiles {
+		texts = append(texts, file+":"+m[file].text)
+	}
+	return texts
 }
 
 func (m model) lets(file string, name string) []modelItem {
@@ -345,8 +363,31 @@ func (m model) report(file string) string {
 	return out
 }
 
+func (m model) exports(file string) []string {
+	var names []string
+	for _, item := range m[file].items {
+		if item.head == "pub let" {
+			names = append(names, item.name)
+		}
+	}
+	slices.Sort(names)
+	return slices.Compact(names)
+}
+
+// answer leaves Tokens and Tree to package lang: of them the model has no account of its own.
 func (m model) answer(kind int, file string, name string) string {
 	switch kind {
+	case api.Known:
+		if _, there := m[file]; there {
+			return "yes"
+		}
+		return "no"
+	case api.Tokens:
+		return lang.WriteTokens(lang.ReadTokens(m[file].text))
+	case api.Tree:
+		return lang.WriteTree(lang.ReadTree(lang.ReadTokens(m[file].text)))
+	case api.Exports:
+		return strings.Join(m.exports(file), " ")
 	case api.Find:
 		return m.find(file, name)
 	case api.Type:
@@ -361,7 +402,7 @@ func (m model) answer(kind int, file string, name string) string {
 func TestModel(t *testing.T) {
 	random := rand.New(rand.NewSource(5))
 	seen := map[string]int{}
-	for range 150 {
+	for range 200 {
 		s, m := New(), model{}
 		for range 12 {
 			file := modelFiles[random.Intn(len(modelFiles))]
@@ -378,7 +419,7 @@ func TestModel(t *testing.T) {
 				name := []string{"i", "j", "k", "l", "none", "p", "q", "two", "h"}[random.Intn(9)]
 				want := m.answer(kind, file, name)
 				if got, errno := s.Ask(kind, file, name); got != want || errno != api.OK {
-					t.Fatalf("P4: Ask(%d, %s, %s) = %q, %d, want %q, of %q", kind, file, name, got, errno, want, m)
+					t.Fatalf("P4: Ask(%d, %s, %s) = %q, %d, want %q, of %q", kind, file, name, got, errno, want, m.texts())
 				}
 				for _, word := range strings.Fields(want) {
 					seen[strconv.Itoa(kind)+" "+word]++

@@ -127,6 +127,11 @@ func WriteTree(tree Tree) string {
 	return out.String()
 }
 
+// SameTree tells whether two trees say the same.
+func SameTree(one Tree, other Tree) bool {
+	return one.Fault == other.Fault && slices.Equal(one.Items, other.Items)
+}
+
 // Exports answers the names of the pub items, each once, in rising order.
 func Exports(tree Tree) []string {
 	var names []string

@@ -129,3 +129,21 @@ func TestExports(t *testing.T) {
 		}
 	}
 }
+
+// TestSameTree: trees are the same just if they are written the same.
+func TestSameTree(t *testing.T) {
+	texts := []string{
+		"", " #\n", "use b;", "use\tb ;", "use c;", "use b", "use b;;", "use b;use b;", ";", "use",
+		"let b:int=1;", "let b:int=01;", "let b:int=(1);", "let b:int=2;", "let b:bool=1;", "pub let b:int=1;", "let c:int=1;", "let b:int=1;;",
+		"let b:int=1+2+3;", "let b:int=(1+2)+3;", "let b:int=1+(2+3);", "let b:int=1*2+3;", "let b:int=1*(2+3);", "let b:int=1==2;", "let b:int=2==1;",
+		"let b:int=x;", "let b:int=true;", "let b:int=false;", "let b:int=if x then 1 else 2 end;", "let b:int=if (x) then 1 else 2 end;", "let b:int=if x then 2 else 1 end;",
+	}
+	for _, one := range texts {
+		for _, other := range texts {
+			a, b := ReadTree(ReadTokens(one)), ReadTree(ReadTokens(other))
+			if got, want := SameTree(a, b), WriteTree(a) == WriteTree(b); got != want {
+				t.Errorf("P5: the trees of %q and %q are the same: %t, want %t", one, other, got, want)
+			}
+		}
+	}
+}
